@@ -1,0 +1,1 @@
+"""Seats of a network divided among journeys."""
