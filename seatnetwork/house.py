@@ -1,16 +1,20 @@
 """The house of legs and journeys, and what is answered to calls on it."""
 
 from seatnetwork.table import best_division, bid_prices
+from seatnetwork.whole import best_whole_division, choices, is_division, journey_mosts, sum_earned
 
 
 OUT_OF_RANGE = -2
 NO_SUCH_JOURNEY = -3
 NO_ROOM = -6
 NO_SUCH_LEG = -7
+TOO_MANY_CHOICES = -8
 LEG_TWICE = -9
+NOT_ONE_EACH = -10
 
 MOST_LEGS = 5
 MOST_JOURNEYS = 5
+MOST_CHOICES = 20000
 
 # for each place the least and the most of each argument
 ARGUMENTS = {
@@ -21,11 +25,19 @@ ARGUMENTS = {
     4: ((1, 5), (0, 1000000)),
     5: (),
     6: (),
+    7: ((1, 5),),
+    8: ((1, 5),),
+    9: (),
+    10: (),
+    11: (),
+    12: (),
+    13: (),
 }
 
 # for each place with a row the least and the most of its length, then of its numbers
 ROWS = {
     1: ((1, 5), (1, 5)),
+    10: ((0, 5), (0, 1000)),
 }
 
 
@@ -155,6 +167,76 @@ def tell_bids(house, call):
     return [0] + fractions_told(bid_prices(house.capacities, house.fares, house.demands, house.ways))
 
 
+def tell_accept(house, call):
+    journey = call.arguments[0]
+    if not has_journey(house, journey):
+        return [NO_SUCH_JOURNEY]
+    prices = bid_prices(house.capacities, house.fares, house.demands, house.ways)
+    # all prices stand over the same number, and so does their sum
+    ask_above = sum([prices[leg - 1][0] for leg in house.ways[journey - 1]])
+    ask_below = prices[0][1]
+    return [0, one_if(house.fares[journey - 1] * ask_below >= ask_above)]
+
+
+def tell_gain(house, call):
+    leg = call.arguments[0]
+    if not has_leg(house, leg):
+        return [NO_SUCH_LEG]
+    raised = list(house.capacities)
+    raised[leg - 1] += 1
+    return [0] + fractions_told([difference(best_earned(house, raised), best_earned(house, house.capacities))])
+
+
+def best_earned(house, capacities):
+    return best_division(capacities, house.fares, house.demands, house.ways)[0]
+
+
+def difference(pair, other):
+    return (pair[0] * other[1] - other[0] * pair[1], pair[1] * other[1])
+
+
+def tell_whole(house, call):
+    if choices(journey_mosts(house.capacities, house.demands, house.ways)) > MOST_CHOICES:
+        return [TOO_MANY_CHOICES]
+    return [0] + best_whole_division(house.capacities, house.fares, house.demands, house.ways)
+
+
+def tell_feasible(house, call):
+    seats = call.row
+    if len(seats) != len(house.ways):
+        return [NOT_ONE_EACH]
+    feasible = is_division(seats, house.capacities, house.demands, house.ways)
+    return [0, one_if(feasible), sum_earned(seats, house.fares)]
+
+
+def tell_line(house, call):
+    return [0, one_if(all([is_without_gap(way) for way in house.ways]))]
+
+
+def is_without_gap(way):
+    # no leg is named twice, so that as many legs as from the least to the greatest are all of these
+    return max(way) - min(way) + 1 == len(way)
+
+
+def clear_house(house, call):
+    house.capacities = []
+    house.fares = []
+    house.demands = []
+    house.ways = []
+    return [0]
+
+
+def tell_shown(house, call):
+    told = [0, len(house.capacities)] + house.capacities
+    for fare, demand, way in zip(house.fares, house.demands, house.ways):
+        told.extend([fare, demand, len(way)] + way)
+    return told
+
+
+def one_if(holds):
+    return 1 if holds else 0
+
+
 def fractions_told(pairs):
     told = []
     for above, below in pairs:
@@ -179,4 +261,11 @@ ACTS = {
     4: change_fare,
     5: tell_best,
     6: tell_bids,
+    7: tell_accept,
+    8: tell_gain,
+    9: tell_whole,
+    10: tell_feasible,
+    11: tell_line,
+    12: clear_house,
+    13: tell_shown,
 }

@@ -121,7 +121,7 @@ def best_division(capacities, fares, demands, ways):
 
 
 def bid_prices(capacities, fares, demands, ways):
-    """Each leg's price as a pair: above and below the line."""
+    """Each leg's price as a pair: above and below the line, the lower number the same for all."""
     table = solved(capacities, fares, demands, ways)
     prices = table.goals[0][table.journeys:table.journeys + table.legs]
     return [(price, table.below) for price in prices]

@@ -1,12 +1,16 @@
 """What the tests share: calls made into a list and back, and a slow second way to the answers."""
 
 from fractions import Fraction
-from itertools import combinations
+from itertools import combinations, product
 
 from seatnetwork.house import answers
 
 BEST = (5,)
 BIDS = (6,)
+WHOLE = (9,)
+LINE = (11,)
+CLEAR = (12,)
+SHOWN = (13,)
 
 
 def leg(capacity):
@@ -27,6 +31,18 @@ def demand(number, wanted):
 
 def fare(number, paid):
     return (4, number, paid)
+
+
+def accept(number):
+    return (7, number)
+
+
+def gain(number):
+    return (8, number)
+
+
+def feasible(seats):
+    return (10, len(seats)) + tuple(seats)
 
 
 def asked(calls):
@@ -127,6 +143,115 @@ def slow_bids(capacities, journeys):
         if all(price >= 0 for price in prices):
             found.append([cost_of(prices, capacities, journeys)] + prices)
     return [0] + pairs(min(found)[1:])
+
+
+def slow_accept(capacities, journeys, number):
+    told = slow_bids(capacities, journeys)
+    prices = [Fraction(above, below) for above, below in zip(told[1::2], told[2::2])]
+    paid, wanted, legs = journeys[number - 1]
+    return [0, int(paid >= sum(prices[one - 1] for one in legs))]
+
+
+def slow_gain(capacities, journeys, number):
+    raised = [capacity + (one == number) for one, capacity in enumerate(capacities, 1)]
+    more, now = slow_best(raised, journeys), slow_best(capacities, journeys)
+    return [0] + pairs([Fraction(more[1], more[2]) - Fraction(now[1], now[2])])
+
+
+def slow_whole(capacities, journeys):
+    """Every choice of seats is tried."""
+    ranges = [range(min([wanted] + [capacities[one - 1] for one in legs]) + 1) for paid, wanted, legs in journeys]
+    count = 1
+    for one in ranges:
+        count *= len(one)
+    if count > 20000:
+        return [-8]
+    found = [seats for seats in product(*ranges) if is_division(seats, capacities, journeys)]
+    return [0] + list(max((earned(seats, journeys),) + seats for seats in found))
+
+
+def earned(seats, journeys):
+    return sum(given * one[0] for given, one in zip(seats, journeys))
+
+
+def slow_line(journeys):
+    """Every stretch of legs is tried."""
+    stretches = [set(range(start, end)) for start in range(1, 6) for end in range(start + 1, 7)]
+    return [0, int(all(set(legs) in stretches for paid, wanted, legs in journeys))]
+
+
+class SlowHouse:
+    """A second house, that answers each call in the slow way."""
+
+    def __init__(self):
+        self.capacities = []
+        self.journeys = []
+
+    def answer(self, call):
+        place, given = call[0], list(call[1:])
+        if place in (1, 10):
+            given = given[:2 if place == 1 else 0] + [given[3 if place == 1 else 1:]]
+        if not self.of_range(place, given):
+            return [-2]
+        if place in (2, 8) and given[0] > len(self.capacities):
+            return [-7]
+        if place in (3, 4, 7) and given[0] > len(self.journeys):
+            return [-3]
+        return self.told(place, given) if place > 4 else self.changed(place, given)
+
+    def of_range(self, place, given):
+        number, seats, paid = range(1, 6), range(1001), range(1000001)
+        told = {0: [seats], 1: [paid, seats], 2: [number, seats], 3: [number, seats], 4: [number, paid],
+                7: [number], 8: [number]}.get(place, [])
+        if not all(one in bounds for one, bounds in zip(given, told)):
+            return False
+        if place == 1:
+            return len(given[2]) in number and all(one in number for one in given[2])
+        return place != 10 or len(given[0]) < 6 and all(one in seats for one in given[0])
+
+    def changed(self, place, given):
+        if place == 0 and len(self.capacities) == 5:
+            return [-6]
+        if place == 1 and max(given[2]) > len(self.capacities):
+            return [-7]
+        if place == 1 and len(given[2]) > len(set(given[2])):
+            return [-9]
+        if place == 1 and len(self.journeys) == 5:
+            return [-6]
+        if place == 0:
+            self.capacities.append(given[0])
+            return [0, len(self.capacities)]
+        if place == 1:
+            self.journeys.append(tuple(given))
+            return [0, len(self.journeys)]
+        if place == 2:
+            self.capacities[given[0] - 1] = given[1]
+            return [0]
+        paid, wanted, legs = self.journeys[given[0] - 1]
+        self.journeys[given[0] - 1] = (paid, given[1], legs) if place == 3 else (given[1], wanted, legs)
+        return [0]
+
+    def told(self, place, given):
+        if place in (5, 6, 7, 8, 9):
+            slow = {5: slow_best, 6: slow_bids, 7: slow_accept, 8: slow_gain, 9: slow_whole}[place]
+            return slow(self.capacities, self.journeys, *given)
+        if place == 10 and len(given[0]) != len(self.journeys):
+            return [-10]
+        if place == 10:
+            return [0, int(is_division(given[0], self.capacities, self.journeys)), earned(given[0], self.journeys)]
+        if place == 11:
+            return slow_line(self.journeys)
+        if place == 12:
+            self.__init__()
+            return [0]
+        return [0] + shown(self.capacities, self.journeys)
+
+
+def shown(capacities, journeys):
+    told = [len(capacities), *capacities]
+    for paid, wanted, legs in journeys:
+        told += [paid, wanted, len(legs), *legs]
+    return told
 
 
 class Sequence:
